@@ -1,0 +1,1 @@
+"""Anypasses: an optimiser whose every step is judged, for modules in single assignment."""
