@@ -97,9 +97,10 @@ class Engine:
 
     def give(self, value, told):
         """Gives a value in the frame on top, and goes behind the op."""
+        frame = self.top
         if value is not None:
-            self.top.given[value] = told
-        self.top.place += 1
+            frame.given[value] = told
+        frame.place += 1
 
     def depth(self):
         return len(self.below) + 1
