@@ -43,21 +43,25 @@ def do_at(engine, op):
     engine.give(op[0], (thing, integer + signed(engine.told_by(op[3][1]), op[2][0])))
 
 
-def do_load(engine, op):
-    pointer = engine.told_by(op[3][0])
-    cells = engine.cells_at(pointer, op[2][0])
+def cells_or_trap(engine, pointer, width):
+    """The list in which the cell of a pointer stands; None, and the trap, if there is no such cell of the width."""
+    cells = engine.cells_at(pointer, width)
     if cells is None:
         trap(engine, "index")
-    else:
+    return cells
+
+
+def do_load(engine, op):
+    pointer = engine.told_by(op[3][0])
+    cells = cells_or_trap(engine, pointer, op[2][0])
+    if cells is not None:
         engine.give(op[0], cells[pointer[1]])
 
 
 def do_store(engine, op):
     pointer = engine.told_by(op[3][1])
-    cells = engine.cells_at(pointer, op[2][0])
-    if cells is None:
-        trap(engine, "index")
-    else:
+    cells = cells_or_trap(engine, pointer, op[2][0])
+    if cells is not None:
         cells[pointer[1]] = engine.told_by(op[3][0])
         engine.give(None, None)
 

@@ -1,6 +1,6 @@
 """Which labels are on all ways to others ([23])."""
 
-from anypasses.kinds import are_ascending, is_number, is_pair
+from anypasses.kinds import is_number, is_pair
 from anypasses.ways import reached_from, short_way, turned_web, web_without
 from anypasses.webs import check_label, entry_of, web_of
 
@@ -64,7 +64,7 @@ def way_around(function, one, other):
     check_label(function, one, 0)
     check_label(function, other, 1)
     entry = entry_of(function)
-    if one == entry or one == other:
+    if one == entry:
         return None
     return short_way(web_without(web_of(function), one), entry, other)
 
@@ -90,8 +90,7 @@ def is_parent_row(value, labels, entry):
         return False
     if not all([is_number(label) and is_number(parent) and parent in labels for label, parent in value]):
         return False
-    told = [label for label, _ in value]
-    return are_ascending(value) and told == [label for label in sorted(labels) if label != entry]
+    return [label for label, _ in value] == [label for label in sorted(labels) if label != entry]
 
 
 def is_standing_tree(function, value):

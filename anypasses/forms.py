@@ -26,7 +26,7 @@ def is_small(value):
 
 def is_type(value):
     """Whether any value is a type."""
-    return is_width(value) or (isinstance(value, str) and value == "ptr")
+    return is_width(value) or value == "ptr"
 
 
 def is_result(value):

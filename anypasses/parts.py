@@ -18,12 +18,10 @@ def part_places(module):
 def op_type(results, op):
     """The type that an op gives its value, or None; `results` has the result of each function by its name."""
     kind, info = op[1], op[2]
-    if kind == "bin":
-        return info[1]
+    if kind in ("bin", "cast"):
+        return info[-1]
     if kind == "cmp":
         return 1
-    if kind in ("select", "cast"):
-        return info[-1]
     if kind in ("alloca", "at"):
         return "ptr"
     if kind == "call":

@@ -16,15 +16,25 @@ def read_operands(row, count):
     return tuple(operands)
 
 
+def read_list(row, opening, closing, read_one):
+    """What stands between two signs, with commas between, each thing of it read in the same way."""
+    row.want(opening)
+    if row.took(closing):
+        return ()
+    things = [read_one(row)]
+    while row.took(","):
+        things.append(read_one(row))
+    row.want(closing)
+    return tuple(things)
+
+
+def read_operand(row):
+    return row.take_operand()
+
+
 def read_args(row):
     """Operands in parentheses."""
-    row.want("(")
-    if row.took(")"):
-        return ()
-    args = [row.take_operand()]
-    while row.take_more(")"):
-        args.append(row.take_operand())
-    return tuple(args)
+    return read_list(row, "(", ")", read_operand)
 
 
 def read_bin(row, word):
@@ -135,36 +145,14 @@ def read_param(row):
     return (row.take_headed("$"), kind)
 
 
-def read_params(row):
-    """The params of a block in parentheses."""
-    row.want("(")
-    if row.took(")"):
-        return ()
-    params = [read_param(row)]
-    while row.take_more(")"):
-        params.append(read_param(row))
-    return tuple(params)
-
-
 def read_block(row):
     label = row.take_headed("b")
-    params = read_params(row)
+    params = read_list(row, "(", ")", read_param)
     row.want(":")
     ops = []
     while row.peek() not in END_WORDS:
         ops.append(read_one_op(row))
     return (label, params, tuple(ops), read_end(row))
-
-
-def read_cells(row, width):
-    row.want("[")
-    if row.took("]"):
-        return ()
-    bound = 1 << width
-    cells = [row.take_number(bound)]
-    while row.take_more("]"):
-        cells.append(row.take_number(bound))
-    return tuple(cells)
 
 
 def read_global(row, last):
@@ -173,19 +161,12 @@ def read_global(row, last):
     row.want("=")
     row.want("global")
     width = row.take_width()
-    cells = read_cells(row, width)
+    cells = read_list(row, "[", "]", lambda cell_row: cell_row.take_number(1 << width))
     return (name, width, len(cells), cells)
 
 
-def read_types(row):
-    """The params of a function in parentheses."""
-    row.want("(")
-    if row.took(")"):
-        return ()
-    kinds = [row.take_some_type()]
-    while row.take_more(")"):
-        kinds.append(row.take_some_type())
-    return tuple(kinds)
+def read_some_type(row):
+    return row.take_some_type()
 
 
 def read_function(row, last, barred):
@@ -193,7 +174,7 @@ def read_function(row, last, barred):
     row.want("define")
     result = None if row.took("void") else row.take_width()
     name = row.take_fresh_name(last, barred)
-    params = read_types(row)
+    params = read_list(row, "(", ")", read_some_type)
     row.want("{")
     blocks = [read_block(row)]
     while not row.took("}"):

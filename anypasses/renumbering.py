@@ -98,8 +98,6 @@ def paired(olds, news):
 
 def renaming(one, other):
     """The names that lead from one module to the other one, or None."""
-    admitted(one)
-    admitted(other)
     if renumbered(one) != renumbered(other):
         return None
     names = []

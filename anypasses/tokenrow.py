@@ -94,9 +94,8 @@ class TokenRow:
 
     def take_fresh_name(self, last, barred):
         """Takes such a name that is greater than the last one (None if there is none) and not among those barred."""
-        token = self.peek()
-        name = token[1:]
-        if token.startswith("@") and (name in barred or (last is not None and name <= last)):
+        name = self.peek()[1:]
+        if name in barred or (last is not None and name <= last):
             raise InvalidText(self.here())
         return self.take_name()
 
@@ -107,10 +106,3 @@ class TokenRow:
         if token.startswith("@"):
             return ("g", self.take_name())
         return ("n", self.take_number(BOUND))
-
-    def take_more(self, close):
-        """Whether a list goes on behind a thing of it: a comma is taken then, otherwise the closing sign."""
-        if self.took(","):
-            return True
-        self.want(close)
-        return False

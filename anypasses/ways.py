@@ -40,10 +40,8 @@ def short_way(web, start, goal):
 
 
 def web_without(web, barred):
-    """The web without ways through a label: none leads to it, and none from it."""
-    left = {label: [other for other in web[label] if other != barred] for label in web}
-    left[barred] = []
-    return left
+    """The web in which no way leads to a label."""
+    return {label: [other for other in web[label] if other != barred] for label in web}
 
 
 def turned_web(web):

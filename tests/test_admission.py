@@ -158,6 +158,13 @@ class Admission(unittest.TestCase):
         for text, place in MODULES:
             self.faulty(text, place)
 
+    def test_functions_with_the_names_of_ops(self):
+        for word in ("trunc", "zext", "add", "call", "none"):
+            names = sorted((word, "main"))
+            texts = {"main": f"define i8 @main(){{b0(): $0 = call @{word}(1) return $0}}",
+                     word: f"define i8 @{word}(i8){{b0(): $1 = call @{word}($0) return $1}}"}
+            self.assertIsNone(module_fault(read_module(texts[names[0]] + texts[names[1]])))
+
     def test_sizes_of_globals(self):
         main = (("main", (), 8, ((0, (), (), ("stop",)),)),)
         for size in (0, 1, 2, 999, 1000, 1001, 1002):

@@ -45,6 +45,9 @@ class Forms(unittest.TestCase):
     def test_names(self):
         for value in ("a", "Z", "_", "_1", "a9_Z", "main", "a" * 40, "zext", "define"):
             self.assertIs(is_name(value), True)
+        for sign in map(chr, range(128)):
+            self.assertIs(is_name(sign + "9"), sign.isalpha() or sign == "_", sign)
+            self.assertIs(is_name("a" + sign), sign.isalnum() or sign == "_", sign)
         for value in ("", "7", "7a", "a-b", "a b", "a.b", " a", "a\n", "\u00e4", "\u0661", "a\u00b2", "@a", None, 0, True,
                       b"a", ["a"], ("a",)):
             self.assertIs(is_name(value), False)

@@ -216,6 +216,11 @@ class Ends(unittest.TestCase):
         self.assertEqual(state[0], ((32, (0,)), None, None, None, (8, (0,)), None, None, None))
         self.assertEqual(run_of(state), ((0, 0), ("value", 9)))
 
+    def test_the_only_object_is_gone(self):
+        module = module_of("define void @f(){b0(): $0 = alloca i8, 1 return} define i8 @main(){b0(): call @f() call @f() return 1}")
+        states = [advance(module, start_state(module, ()), fuel) for fuel in (2, 3, 5, 6)]
+        self.assertEqual([state[0] for state in states], [((8, (0,)),), (None,), (None, (8, (0,))), (None, None)])
+
     def test_pointers_to_what_is_gone(self):
         """A state may hold one, although no admitted module makes one by itself: a load and a store meet a trap."""
         for do in ("$1 = load i8 $0 return $1", "store i8 1, $0 return 1"):

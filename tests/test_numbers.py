@@ -36,6 +36,10 @@ class Numbers(unittest.TestCase):
             for value in (2 ** width, 2 ** width + 1, -1, -2 ** width, True, False, None, "0", 0.0, (0,), [0]):
                 self.assertIs(is_of_width(value, width), False)
 
+    def test_what_is_no_width_has_no_numbers(self):
+        for width in (True, 0, 7, 128, None, "8"):
+            self.assertIs(is_of_width(0, width), False)
+
     def test_wrapped(self):
         for width in WIDTHS:
             for number in (0, 1, -1, -2, 2 ** width - 1, 2 ** width, -2 ** width, 2 ** width + 5, 10 ** 600, -10 ** 600):

@@ -25,7 +25,7 @@ class Runs(unittest.TestCase):
             ((1, False), None), ((-1,), None), ((1.0,), None), (("1",), None), ((None,), None), (((1,),), None),
             ((), False), ((), True), ((), 0), ((), ()), ((), ("value",)), ((), ("value", True)), ((), ("value", -1)),
             ((), ("value", None)), ((), ["value", 0]), ((), ("value", 0, 0)), ((), ("trap", "halt")), ((), ("trap",)),
-            ((), ("trap", None)), ((), ("trap", ["stop"])), ((), ("stop", "trap")), ((), ("stop",)), ((), "stop"),
+            ((), ("trap", None)), ((), ("trap", ["stop"])), ((), ("stop", "trap")), ((), ("halt", "stop")), ((), ("stop",)), ((), "stop"),
             ((), (["value"], 0)), (None, None), ("", None), ({}, None), ((), ("value", "0")), ((), ("trap", "Stop")),
         )
         for value in values:

@@ -148,6 +148,9 @@ class Trees(unittest.TestCase):
         for tree in (((1, 2), (2, 1), (3, 2)), ((1, 1), (2, 1), (3, 2)), ((1, 0), (2, 3), (3, 2)), ((1, 0), (2, 2), (3, 2)),
                      ((1, 3), (2, 1), (3, 2))):
             self.assertIs(is_standing_tree(ring, tree), False)
+        far = function_of({0: (1,), 1: (2,), 2: (3,), 3: (2, 4), 4: ()})
+        for tree in (((1, 0), (2, 3), (3, 2), (4, 3)), ((1, 0), (2, 1), (3, 4), (4, 3)), ((1, 0), (2, 1), (3, 2), (4, 4))):
+            self.assertIs(is_standing_tree(far, tree), False)
 
     def test_no_trees(self):
         alone = function_of({5: (), 1: (1,)})
