@@ -79,6 +79,19 @@ def dominators_by_leaving_out(count, heads):
 class FunctionMaker:
     """Makes one function of an admitted module."""
 
+    most_blocks = 6
+    end_words = ("jump", "branch", "branch", "return")
+
+    def op_count(self):
+        return self.rng.randint(0, 5)
+
+    def head(self, at, k, count):
+        """The index of the block that is the k-th target of the block with this index."""
+        return self.rng.randrange(1, count)
+
+    def condition(self, at_hand, ops):
+        return self.pick(1, at_hand, ops)
+
     def __init__(self, rng, name, signatures, places):
         self.rng = rng
         self.name = name
@@ -147,12 +160,12 @@ class FunctionMaker:
 
     def function(self):
         rng = self.rng
-        count = rng.randint(1, 6)
+        count = rng.randint(1, self.most_blocks)
         labels = rng.sample(range(60), count)
         shape = []
         for at in range(count):
-            word = rng.choice(("jump", "branch", "branch", "return")) if count > 1 else rng.choice(("return", "stop"))
-            heads = [rng.randrange(1, count) for _ in range({"jump": 1, "branch": 2}.get(word, 0))]
+            word = rng.choice(self.end_words) if count > 1 else rng.choice(("return", "stop"))
+            heads = [self.head(at, k, count) for k in range({"jump": 1, "branch": 2}.get(word, 0))]
             shape.append((word, heads))
         params = [()] + [tuple((self.made(kind), kind) for kind in rng.choices(TYPES, k=rng.randint(0, 2)))
                          for _ in range(count - 1)]
@@ -165,7 +178,7 @@ class FunctionMaker:
             at_hand += [value for other in sorted(near) if other != at for value in made[other]]
             before = set(at_hand) - {value for value, _ in params[at]}
             ops = []
-            for _ in range(rng.randint(0, 5)):
+            for _ in range(self.op_count()):
                 self.add_op(at_hand, ops)
             end = self.end(shape[at], labels, params, at_hand, ops)
             made[at] = [value for value in at_hand if value not in before]
@@ -180,7 +193,7 @@ class FunctionMaker:
         if word == "jump":
             return ("jump", targets[0])
         if word == "branch":
-            return ("branch", self.pick(1, at_hand, ops), targets[0], targets[1])
+            return ("branch", self.condition(at_hand, ops), targets[0], targets[1])
         if word == "return":
             return ("return", None if self.result is None else self.pick(self.result, at_hand, ops))
         return ("stop",)

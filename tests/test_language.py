@@ -197,7 +197,7 @@ class Language(unittest.TestCase):
         known = set(module_names(tree))
         for node in ast.walk(tree):
             if isinstance(node, ast.FunctionDef):
-                known |= bound_in(node)
+                known |= bound_in(node) | {node.name}
         parents = with_parents(tree)
         for node in ast.walk(tree):
             if isinstance(node, ast.Name) and isinstance(node.ctx, ast.Load) and node.id not in known:
