@@ -6,6 +6,7 @@ from anypasses.rangepapers import known_ranges
 from anypasses.rules import RULES, rule_letters
 from anypasses.shapes import end_targets
 from anypasses.webs import reached_labels
+from call_oracle import quiet_by_words
 from memory_oracle import told_memory, told_offsets
 from place_oracle import ahead, goes_to, unread
 
@@ -255,3 +256,51 @@ class Drawer:
                 if self.rng.random() < 0.95 and type(told_memory(self.module, step())) is int:
                     rows[label][cell] = old
         return step()
+
+    def call_site(self):
+        sites = [(block[0], at) for block in self.blocks for at, op in enumerate(block[2]) if op[1] == "call"]
+        return self.rng.choice(sites or [(self.label(), 0)])
+
+    def inline(self):
+        return ("inline", self.name) + self.call_site()
+
+    def call_out(self):
+        quiet = dict(quiet_by_words(self.module))
+        sites = [(function[0], block[0], at) for function in self.module[1] for block in function[3] for at, op in enumerate(block[2])
+                 if op[1] == "call" and op[2][0] in quiet]
+        if sites and self.rng.random() < 0.8:
+            return ("call_out",) + self.rng.choice(sites)
+        return ("call_out", self.name) + self.call_site()
+
+    def tail_loop(self):
+        return ("tail_loop", self.name)
+
+    def result_drop(self):
+        return ("result_drop", self.name)
+
+    def param_drop(self):
+        return ("param_drop", self.name, self.rng.randrange(max(1, len(self.function[1]))))
+
+    def constant_arg(self):
+        at = self.rng.randrange(max(1, len(self.function[1])))
+        args = [op[3][at] for function in self.module[1] for block in function[3] for op in block[2] if op[1:3] == ("call", (self.name,)) and at < len(op[3])]
+        return ("constant_arg", self.name, at, self.rng.choice(args + [self.operand()]))
+
+    def result_known(self):
+        returned = [block[3][1] for block in self.blocks if block[3][0] == "return" and block[3][1] is not None]
+        return ("result_known", self.name, self.rng.choice(returned or [self.operand()]))
+
+    def functions_out(self):
+        names = [function[0] for function in self.module[1] if function[0] != "main"]
+        return ("functions_out", self.some(names))
+
+    def globals_out(self):
+        return ("globals_out", self.some([place[0] for place in self.module[0]]))
+
+    def merge(self):
+        names = [function[0] for function in self.module[1]]
+        pairs = [(one, other) for one in names for other in names if one != "main" and one != other]
+        if pairs and self.rng.random() < 0.7:
+            return ("merge", (self.rng.choice(pairs),))
+        firsts = self.some(names[:-1])
+        return ("merge", tuple((one, self.rng.choice(names)) for one in firsts))

@@ -3,13 +3,22 @@
 import unittest
 
 from anypasses.admission import module_fault
+from anypasses.call_steps import apply_call
+from anypasses.callees import quiet_fuel
+from anypasses.cleaning import is_clean
 from anypasses.dominating import dominates, is_standing_tree, tree_of, way_around
+from anypasses.flow_steps import apply_flow
+from anypasses.judge import judged
 from anypasses.loops import loop_ends, loops_of
 from anypasses.machine import deeds_of, run_module, whole_run
 from anypasses.meeting import frontier, meeting_labels
+from anypasses.neatness import pass_neat
+from anypasses.needs import dead_values, is_lean, needed_values, pass_dead
 from anypasses.numbers import bin_told, cast_told, cmp_told, signed, wrapped
 from anypasses.parts import operand_uses, value_types
+from anypasses.pureness import folded, is_pure
 from anypasses.reading import read_module, read_op
+from anypasses.rules import RULES
 from anypasses.runs import agree_so_far, is_beginning
 from anypasses.standing import standing
 from anypasses.webs import reached_labels, sources_of, way_to
@@ -69,6 +78,48 @@ class Examples(unittest.TestCase):
             (frontier(some, 2), meeting_labels(some, [2]), loops_of(some), loop_ends(some, 4), way_around(some, 2, 7),
              dominates(some, 2, 7)),
             ((4,), (4,), ((4, (2, 4)),), ((4, 7),), (0, 4, 7), False))
+
+    def test_values(self):
+        self.assertEqual(
+            (folded((7, "bin", ("add", 8), (("n", 250), ("n", 9)))), is_pure((7, "bin", ("udiv", 8), (("v", 1), ("v", 2))))),
+            (3, False))
+        self.assertEqual((RULES[39], RULES[-1]), (("udiv a p", "lshr a LOG p"), ("sext sext a", "sext a")))
+
+    def test_flow(self):
+        loop = read_module("define i8 @main(){b0(): $0=input i8 jump b1($0) b1(i8 $1): $2=cmp ult i8 $1,9 print i8 $1"
+                           " branch $2,b2(),b3() b2(): jump b1($0) b3(): return 7}")
+        once = apply_flow(loop, ("twin", "main", 1, ((0, 0),)))
+        self.assertEqual(
+            (once[1][0][3][0][3], once[1][0][3][4][:2], apply_flow(once, ("join", "main", 4))[1][0][3][0][2][1:]),
+            (("jump", (4, (("v", 0),))), (4, ((3, 8),)),
+             ((4, "cmp", ("ult", 8), (("v", 0), ("n", 9))), (None, "print", (8,), (("v", 0),)))))
+        self.assertEqual(
+            (apply_flow(loop, ("bend", "main", 1, 0))[1][0][3][1][3],
+             apply_flow(loop, ("carry", "main", (2, 3), 1))[1][0][3][1][3][2]),
+            (("branch", ("v", 2), (1, (("v", 0),)), (3, ())), (2, (("v", 1),))))
+
+    def test_calls(self):
+        def behind(text, step):
+            return " ".join(module_text(apply_call(read_module(text), step)).split())
+
+        text = "define i8 @f(i8){b0(): return $0} define i8 @main(){b0(): $0=call @f(5) return $0}"
+        self.assertEqual(
+            behind(text, ("inline", "main", 0, 0))[47:],
+            "@main() { b0(): jump b1() b1(): jump b2(5) b2(i8 $0): return $0 }")
+        self.assertEqual(
+            (behind(text, ("result_known", "f", ("v", 0)))[47:], quiet_fuel(read_module(text))),
+            ("@main() { b0(): $0 = call @f(5) return 5 }", (("f", 1), ("main", 3))))
+
+    def test_cleaning_and_needs(self):
+        spin = read_module("define i8 @main(){b0(): $0=input i8 jump b1($0,0) b1(i8 $1,i8 $2): $3=add i8 $2,$1 jump b2()"
+                           " b2(): print i8 $1 branch 1,b1($1,$3),b1($1,$3)}")
+        self.assertEqual(
+            (needed_values(spin, spin[1][0]), dead_values(spin, spin[1][0]), pass_dead(spin)),
+            ((0, 1), (2, 3), (("take_lot", "main", (2, 3)),)))
+        self.assertEqual(
+            (is_clean(spin), is_lean(spin), module_text(judged(spin, pass_neat(spin)))),
+            (False, False, "define i8 @main() {\nb0():\n  $0 = input i8\n  jump b1($0)\nb1(i8 $1):\n  print i8 $1\n"
+                           "  jump b1($1)\n}"))
 
 
 if __name__ == "__main__":

@@ -32,7 +32,31 @@ INTERFACE = {
     "meeting": "frontier(function,label) meeting_labels(function,labels)",
     "loops": "turns_of(function) loops_of(function) loop_ends(function,head)",
     "settling": "settle(targets,starts,step,join,rounds) unsettled(targets,starts,step,join,facts)",
+    "living": "op_uses(op) end_uses(end) live_values(function) is_live_paper(function,value)",
+    "ranges": "bin_range(op,width,one,other) cmp_range(pred,width,one,other) narrowed(pred,width,one,other)",
+    "rangepapers": "known_ranges(function) is_range_paper(function,value) range_at(function,paper,site,value)",
+    "pureness": "is_pure(op) folded(op)",
+    "rules": "rule_letters(module,function,k,value) rule_fits(module,function,k,value,operand)",
+    "value_steps": "apply_value(module,step)",
+    "flow_steps": "apply_flow(module,step)",
+    "places": "place_of(function,operand,width) base_of(function,operand) is_private(function,value)"
+              " are_apart(function,one,other) is_inside(module,function,place)",
+    "contents": "content_behind(function,place,content,op) contents_hold(function,place,paper)"
+                " content_ahead(function,place,paper,label,index) unread_holds(function,place,labels)"
+                " is_unread(function,place,labels,label,index)",
+    "memory_steps": "told_cells(function,value) apply_memory(module,step)",
+    "callees": "quiet_fuel(module) is_alike(module,value)",
+    "call_steps": "apply_call(module,step)",
+    "papers": "step_words() is_paper(value) step_kind(step)",
+    "judge": "apply_step(module,step) judged(module,paper) fitting_steps(module,paper) stages(module,paper)"
+             " shortened(module,paper) leads(module,paper,other) same_runs(module,other,inputs,fuel)",
+    "lots": "lot_taken(function,values)",
+    "cleaning": "pass_clean(module) is_clean(module)",
+    "needs": "needed_values(module,function) dead_values(module,function) pass_dead(module) is_lean(module)",
+    "neatness": "pass_neat(module) is_neat(module)",
 }
+VALUES = {"numbers": "WIDTHS OPS PREDS CASTS", "rules": "RULES", "value_steps": "VALUE_WORDS", "flow_steps": "FLOW_WORDS",
+          "memory_steps": "MEMORY_WORDS", "call_steps": "CALL_WORDS"}
 ERRORS = ("PassError", "InvalidText", "InvalidModule", "InvalidStep", "InvalidQuestion", "Refused", "InvalidCommand")
 
 
@@ -49,7 +73,17 @@ class Interface(unittest.TestCase):
                 function, params = word.rstrip(")").split("(")
                 with self.subTest(name=name, function=function):
                     self.assertIn(function, defined_in(name))
-                    self.assertEqual(list(inspect.signature(getattr(module, function)).parameters), params.split(","))
+                    wanted = params.split(",") if params else []
+                    self.assertEqual(list(inspect.signature(getattr(module, function)).parameters), wanted)
+
+    def test_values(self):
+        for name, told in VALUES.items():
+            module = importlib.import_module(f"anypasses.{name}")
+            tree = ast.parse((PACKAGE / f"{name}.py").read_text())
+            assigned = [target.id for node in tree.body if isinstance(node, ast.Assign) for target in node.targets]
+            for word in told.split():
+                self.assertIn(word, assigned)
+                self.assertIs(type(getattr(module, word)), tuple)
 
     def test_errors_are_defined_in_their_file(self):
         self.assertEqual(tuple(defined_in("errors")), ERRORS)

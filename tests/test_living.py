@@ -3,7 +3,7 @@
 import unittest
 
 from anypasses.living import end_uses, is_live_paper, live_values, op_uses
-from anypasses.machine import run_module
+from anypasses.machine import advance, run_module, run_of, start_state
 from anypasses.reading import read_module, read_op
 from anypasses.shapes import end_targets
 from lively import lively_module
@@ -119,6 +119,30 @@ class Live(unittest.TestCase):
                 paper = live_values(function)
                 self.assertEqual(paper, paper_by_definition(function))
                 self.assertIs(is_live_paper(function, paper), True)
+
+
+class Forgetting(unittest.TestCase):
+    def forgotten(self, papers, state):
+        """The state without the values that the papers do not have at the sites of its frames."""
+        frames = []
+        for name, label, place, values, base in state[1]:
+            row = papers[name][label][place]
+            frames.append((name, label, place, tuple(pair for pair in values if pair[0] in row), base))
+        return state[:1] + (tuple(frames),) + state[2:]
+
+    def test_a_machine_that_forgets_runs_alike(self):
+        dropped = 0
+        for rng in sources(100, seed=3):
+            module = lively_module(rng)
+            papers = {function[0]: dict(live_values(function)) for function in module[1]}
+            for inputs in ((), (0, 255, 7, 1, 3), (9, 9, 9, 9)):
+                state = start_state(module, inputs)
+                for _ in range(60):
+                    less = self.forgotten(papers, state)
+                    dropped += less != state
+                    state = advance(module, less, 1)
+                self.assertEqual(run_of(state), run_module(module, inputs, 60))
+        self.assertGreater(dropped, 300)
 
 
 class LivePapers(unittest.TestCase):
