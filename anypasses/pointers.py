@@ -73,8 +73,8 @@ class Pointers:
         for block in function[3]:
             shown = list(end_operands(block[3]))
             for op in block[2]:
-                known = op[1] in ("load", "store") or is_shift(op)
-                shown.extend([arg for arg in op[3] if not known or arg != pointer_of(op)])
+                if op[1] not in ("load", "store") and not is_shift(op):
+                    shown.extend(op[3])
             for operand in shown:
                 root = self.root(operand)
                 if root is not None and root[0] == "v" and root[1] in told:

@@ -125,6 +125,11 @@ class Inline(CallCase):
         self.fits("define void @f(){ b0(): return } define i8 @main(){ b9(): call @f() return 3 }", ("inline", "main", 9, 0),
                   "define void @f(){ b0(): return } define i8 @main(){ b9(): jump b10() b10(): jump b11() b11(): return 3 }")
 
+    def test_values_into_a_function_without_any(self):
+        self.fits("define void @f(){ b0(): $3 = input i8 jump b1($3) b1(i8 $7): print i8 $7 return } define i8 @main(){ b0(): call @f() return 3 }", ("inline", "main", 0, 0),
+                  """define void @f(){ b0(): $3 = input i8 jump b1($3) b1(i8 $7): print i8 $7 return } define i8 @main(){ b0(): jump b1() b1(): $0 = input i8 jump b2($0)
+                  b2(i8 $1): print i8 $1 jump b3() b3(): return 3 }""")
+
     def test_unreached_calls(self):
         self.fits("define i8 @f(i8){ b0(): return $0 } define i8 @main(){ b0(): return 3 b1(): $0 = call @f($0) jump b1() }", ("inline", "main", 1, 0),
                   "define i8 @f(i8){ b0(): return $0 } define i8 @main(){ b0(): return 3 b1(): jump b2() b2(): jump b3($0) b3(i8 $0): jump b1() }")
@@ -226,6 +231,12 @@ class Signatures(CallCase):
         self.fits("define i8 @main(){ b0(): return 3 b1(): $0 = call @main() print i8 $0 stop }", ("result_known", "main", ("n", 3)),
                   "define i8 @main(){ b0(): return 3 b1(): $0 = call @main() print i8 3 stop }")
 
+    def test_numbers_like_those_of_calls(self):
+        """A returned number is no call's value, though it may be its number."""
+        text = "define i8 @f(i8){ b0(): $3 = call @f($0) branch 1, b1(), b2() b1(): return $0 b2(): return 3 }" + MAIN
+        self.refused(text, ("result_known", "f", ("v", 0)), 2)
+        self.refused(text, ("result_known", "f", ("n", 3)), 2)
+
     def test_functions_that_call_one_another_round(self):
         text = """define i8 @f(i8, i8){ b0(): branch 1, b1(), b2() b1(): return $0 b2(): $2 = call @g($0, $1) return $2 } define i8 @g(i8, i8){ b0(): $2 = call @f($0, $1) return $2 }
             define i8 @main(){ b0(): $0 = call @f(1, 2) return $0 }"""
@@ -275,6 +286,9 @@ class Whole(CallCase):
         self.fits(text, ("merge", (("f", "g"),)), text.replace("@f(1)", "@g(1)").replace("call @f($0)", "call @g($0)"))
         self.fits(text, ("merge", (("g", "f"),)), text.replace("@g(2)", "@f(2)"))
         self.fits(text, ("merge", (("f", "h"), ("g", "h"))), text.replace("@f(1)", "@h(1)").replace("@g(2)", "@h(2)").replace("call @f($0)", "call @h($0)"))
+        words = """define i8 @add(i8){ b0(): $1 = add i8 $0, 1 return $1 } define i8 @main(){ b0(): $0 = call @add(3) return $0 }
+            define i8 @sub(i8){ b0(): $1 = add i8 $0, 1 return $1 }"""
+        self.fits(words, ("merge", (("add", "sub"),)), words.replace("call @add", "call @sub"))
         for pairs in ((("g", "h"),), (("f", "main"),), (("main", "f"),), (("f", "g"), ("g", "f")), (("f", "g"), ("f", "h")), (("f", "f"),), (), [("f", "g")], None, (("f",),), ("fg",)):
             self.refused(text, ("merge", pairs), 1)
 

@@ -189,6 +189,29 @@ class Promote(MemoryCase):
         self.fits(both.replace("$3 = load i8 $0 print i8 $3", "store i8 5, $0"), ("promote", "main", 0, ((1, (("v", 2), five)), (2, (five, five)))), """define i8 @main(){ b0(): jump b1() b1(): $4 = input i1
             branch $4, b1(), b2() b2(): return 5 }""")
 
+    def test_contents_that_are_lost_on_the_way(self):
+        """What a block has lost it cannot hand on, and no load, used or not, may find it."""
+        text = """define i8 @main(){ b0(): $0 = alloca i8, 2 $1 = at i8 $0, 1 store i8 5, $1 store i8 5, $0 jump b1() b1(): $2 = load i8 $1 jump b2()
+            b2(): $3 = load i8 $0 return $3 }"""
+        five = ("n", 5)
+        self.refused(text, ("promote", "main", 0, ((1, (("v", 2), five)), (2, (("new", 50), five)))), 3)
+        self.refused(text, ("promote", "main", 0, ((1, (("v", 2), five)), (2, (five, five)))), 3)
+        self.fits(text, ("promote", "main", 0, ((1, (five, five)), (2, (("new", 50), five)))), """define i8 @main(){ b0(): jump b1() b1(): jump b2(5) b2(i8 $50): return $50 }""")
+        unused = text.replace("jump b2()\n            b2(): $3 = load i8 $0 return $3", "$3 = load i8 $0 return 0")
+        self.refused(unused, ("promote", "main", 0, ((1, (("v", 2), five)),)), 3)
+        self.fits(unused, ("promote", "main", 0, ((1, (five, five)),)), "define i8 @main(){ b0(): jump b1() b1(): return 0 }")
+
+    def test_numbers_like_those_of_loads(self):
+        """A stored number is no loaded value, though it may be its number."""
+        self.fits("define i8 @main(){ b0(): $0 = alloca i8, 1 store i8 1, $0 $1 = load i8 $0 return $1 }", ("promote", "main", 0, ()), "define i8 @main(){ b0(): return 1 }")
+
+    def test_new_values(self):
+        text = "define i8 @main(){ b0(): $0 = alloca i8, 1 $2 = input i8 store i8 $2, $0 jump b1(3) b1(i8 $3): $4 = load i8 $0 return $4 }"
+        for new in (1, 5, 77, 2 ** 63 - 1):
+            self.fits(text, ("promote", "main", 0, ((1, (("new", new),)),)), "define i8 @main(){ b0(): $2 = input i8 jump b1(3, $2) b1(i8 $3, i8 $%d): return $%d }" % (new, new))
+        for new in (0, 2, 3, 4, True, -1, 1.0, "7", None, (7,), 2 ** 64):
+            self.refused(text, ("promote", "main", 0, ((1, (("new", new),)),)), 3)
+
     def test_what_cannot_be_promoted(self):
         for body, told in (("$1 = at i8 $0, $9 return 0", 2), ("jump b1($0) b1(ptr $1): return 0", 2), ("$1 = at i8 $0, 2 $2 = load i8 $1 return 0", 2),
                            ("$1 = at i8 $0, 255 store i8 1, $1 return 0", 2), ("$1 = load i16 $0 return 0", 2), ("return 0 b1(): stop", 2), ("return 0", None),

@@ -37,7 +37,7 @@ class Places(unittest.TestCase):
         self.assertEqual(base_of(function, ("g", "t")), ("g", "t"))
 
     def test_rings_of_ats(self):
-        module = admitted_text(self.text)
+        module = admitted_text(self.text.replace("$24 = at i8 $23, 1 stop", "$24 = at i8 $23, 1 $25 = select ptr 1, $20, $24 stop"))
         function = module[1][0]
         for value in (20, 21, 22):
             self.assertIs(is_inside(module, function, place_of(function, ("v", value), 8)), False)
@@ -116,6 +116,12 @@ class Apart(unittest.TestCase):
             places = [thing if len(thing) == 3 else (thing, 0, 8) for thing in (one, other)]
             self.assertIs(are_apart(function, *places), told, (one, other))
             self.assertIs(are_apart(function, *places[::-1]), told, (one, other))
+
+    def test_params_are_those_of_the_function(self):
+        """The first value that is none of them is no param."""
+        function = admitted_text("@t = global i8 [1] define i8 @f(ptr){ b0(): $1 = select ptr 1, $0, @t $2 = alloca i8, 1 jump b1($2) b1(ptr $3): return 0 }" + MAIN)[1][0]
+        self.assertIs(are_apart(function, (("v", 0), 0, 8), (("v", 2), 0, 8)), True)
+        self.assertIs(are_apart(function, (("v", 1), 0, 8), (("v", 2), 0, 8)), False)
 
     def test_offsets_of_one_root_alone_count(self):
         function = admitted_text(self.text)[1][0]

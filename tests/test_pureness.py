@@ -24,7 +24,7 @@ class Pure(unittest.TestCase):
                            ("$9 = zext i8 $1 to i16", True), ("$9 = sext i8 $1 to i16", True), ("$9 = trunc i16 $1 to i8", True),
                            ("$9 = at i8 $1, 0", True), ("$9 = at i8 @g, $1", True), ("$9 = alloca i8, 3", False), ("$9 = load i8 $1", False),
                            ("$9 = input i8", False), ("store i8 0, $1", False), ("print i8 $1", False), ("$9 = call @f($1)", False),
-                           ("call @f()", False)):
+                           ("call @f()", False), ("$9 = call @udiv($1, 3)", False), ("$9 = call @add($1, 3)", False), ("$9 = call @zext(3)", False)):
             self.assertIs(is_pure(read_op(text)), told, text)
 
 
@@ -50,7 +50,8 @@ class Folded(unittest.TestCase):
         for text in ("$9 = add i8 $1, 0", "$9 = add i8 0, $1", "$9 = mul i8 $1, $1", "$9 = udiv i8 7, 0", "$9 = srem i8 7, 0", "$9 = sdiv i8 7, $2",
                      "$9 = cmp eq i8 $1, $1", "$9 = cmp eq i8 1, $1", "$9 = select i8 1, $1, 3", "$9 = select i8 1, 3, $1", "$9 = select i8 $1, 3, 3",
                      "$9 = select ptr 1, @g, @g", "$9 = zext i8 $1 to i16", "$9 = at i8 @g, 1", "$9 = alloca i8, 1", "$9 = input i8",
-                     "$9 = load i8 @g", "print i8 1", "store i8 1, @g", "$9 = call @f(1, 2)", "call @f()"):
+                     "$9 = load i8 @g", "print i8 1", "store i8 1, @g", "$9 = call @f(1, 2)", "call @f()", "$9 = call @add(1, 2)",
+                     "$9 = call @eq(1, 2)", "$9 = call @zext(1)", "$9 = call @udiv(1, 2)"):
             self.assertIsNone(folded(read_op(text)), text)
 
 

@@ -174,6 +174,32 @@ class Papers(unittest.TestCase):
                            (((1, ()), (2, ((2, 0, 9),)), (3, ())), False), (((5, ()),), False), (((1, ()),), False)):
             self.assertIs(is_range_paper(function, row + more), told, more)
 
+    def test_ops_that_take_entries_away(self):
+        """In a label that nothing goes to a value may have an entry ahead of its op; behind other ops it has none."""
+        head = "define i8 @main(){ b0(): return 0 b1(): "
+        for op, kind in (("$1 = input i8", "i8"), ("$1 = load i8 @t", "i8"), ("$1 = call @zext(7)", "i8"), ("$1 = sext i1 0 to i8", "i8"), ("$1 = trunc i16 3 to i8", "i8"),
+                         ("$1 = alloca i8, 1", "ptr"), ("$1 = at i8 @t, 1", "ptr"), ("$1 = select ptr 1, @t, @t", "ptr")):
+            module = read_module("@t = global i8 [1] " + head + op + " jump b2() b2(): stop } define i8 @zext(i8){ b0(): return 0 }")
+            function = module[1][0]
+            paper = ((0, ()), (1, ((1, 3, 4), (5, 6, 7))), (2, ((5, 6, 7),)))
+            self.assertEqual([range_at(function, paper, (1, index), 1) for index in (0, 1)], [(3, 4), None], op)
+            self.assertIs(is_range_paper(function, paper), True)
+            self.assertIs(is_range_paper(function, ((0, ()), (1, ((1, 3, 4),)), (2, ((1, 0, 255),)))), False)
+        for op in ("print i8 3", "store i8 3, @t", "call @g()"):
+            function = read_module("@t = global i8 [1] " + "define void @g(){ b0(): return } " + head + op + " jump b2() b2(): $1 = input i8 stop }")[1][1]
+            self.assertIs(is_range_paper(function, ((0, ()), (1, ((1, 3, 4),)), (2, ((1, 3, 4),)))), True)
+
+    def test_params_that_are_pointers(self):
+        function = read_module("@t = global i8 [1] define i8 @main(){ b0(): return 0 b1(): jump b2(@t) b2(ptr $1): stop }")[1][0]
+        self.assertIs(is_range_paper(function, ((0, ()), (1, ((1, 3, 4),)), (2, ()))), True)
+        self.assertIs(is_range_paper(function, ((0, ()), (1, ((1, 3, 4),)), (2, ((1, 3, 4),)))), False)
+
+    def test_calls_named_like_words(self):
+        """A function may be called zext or ult; a call of it is no such op."""
+        module = read_module("""define i8 @main(){ b0(): $0 = call @zext(3) $1 = call @ult(1, 2) branch $1, b1(), b2() b1(): return $0 b2(): return 1 }
+            define i1 @ult(i8, i8){ b0(): return 1 } define i8 @zext(i8){ b0(): return $0 }""")
+        self.assertEqual(known_ranges(module[1][0]), ((0, ()), (1, ((1, 1, 1),)), (2, ((1, 0, 0),))))
+
     def test_highs_beyond_the_width(self):
         """Such an entry is kept as it is, but what is asked of it may be anything."""
         function = main_of("b0(): $0 = input i8 jump b1($0) b1(i8 $1): $2 = add i8 $1, 0 jump b2() b2(): stop")
@@ -192,11 +218,11 @@ class Papers(unittest.TestCase):
         for value in (None, 0, "", [], (), list(paper), paper[1:], paper[:3], (second, first, third, fourth), paper + ((4, ()),), paper + (fourth,),
                       ((0, []), second, third, fourth), ((False, ()), second, third, fourth), ((0.0, ()), second, third, fourth),
                       (list(first), second, third, fourth), ((0,), second, third, fourth), ((0, (), ()), second, third, fourth),
-                      ((0, ((1, 0, 255),)), second, third, fourth), (first, (1, [(1, 0, 15)]), third, fourth), (first, (1, ([1, 0, 15],)), third, fourth),
-                      (first, (1, ((1, 0),)), third, fourth), (first, (1, ((1, 0, 15, 0),)), third, fourth), (first, (1, ((1, 15, 0),)), third, fourth),
-                      (first, (1, ((True, 0, 15),)), third, fourth), (first, (1, ((1, False, 15),)), third, fourth), (first, (1, ((1, 0, "15"),)), third, fourth),
-                      (first, (1, ((1, 0, 15.0),)), third, fourth), (first, (1, ((1, -1, 15),)), third, fourth), (first, (1, ((1, 0, 15), (1, 0, 15))), third, fourth),
-                      (first, (1, ((1, 0, 15), (1, 0, 16))), third, fourth), (first, (True, ((1, 0, 15),)), third, fourth), (first, (1, None), third, fourth),
+                      ((0, ((1, 0, 255),)), second, third, fourth), (first, (1, [(1, 0, 31)]), third, fourth), (first, (1, ([1, 0, 31],)), third, fourth),
+                      (first, (1, ((1, 0),)), third, fourth), (first, (1, ((1, 0, 31, 0),)), third, fourth), (first, (1, ((1, 31, 0),)), third, fourth),
+                      (first, (1, ((True, 0, 31),)), third, fourth), (first, (1, ((1, False, 31),)), third, fourth), (first, (1, ((1, 0, "31"),)), third, fourth),
+                      (first, (1, ((1, 0, 31.0),)), third, fourth), (first, (1, ((1, -1, 31),)), third, fourth), (first, (1, ((1, 0, 31), (1, 0, 31))), third, fourth),
+                      (first, (1, ((1, 0, 31), (1, 0, 16))), third, fourth), (first, (True, ((1, 0, 31),)), third, fourth), (first, (1, None), third, fourth),
                       (first, second, (2, third[1][::-1]), fourth), (None, second, third, fourth), (first, ("1", ()), third, fourth)):
             self.assertIs(is_range_paper(function, value), False, value)
             with self.assertRaises(InvalidQuestion) as caught:

@@ -134,6 +134,12 @@ class Use(unittest.TestCase, Steps):
                                     (("v", 0), ("rule", None), 4), (("v", 0), ("rule", 0, 0), 4), (("v", False), ("rule", 0), 3)):
             self.refused(text, ("use", "f", 2, operand, reason), at)
 
+    def test_params_of_the_own_block(self):
+        """They stand ahead of its ops, but not where it begins."""
+        text = "define i8 @f(i8){ b0(): jump b1($0, 3) b1(i8 $1, i8 $2): $3 = add i8 $1, 0 $4 = or i8 $2, 0 $5 = sub i8 $3, $4 return $5 }" + MAIN
+        self.fits(text, ("use", "f", 3, ("v", 1), ("rule", RULE["add a 0"])), text.replace("sub i8 $3", "sub i8 $1"))
+        self.fits(text, ("use", "f", 4, ("v", 2), ("rule", RULE["or a 0"])), text.replace("$3, $4", "$3, $2"))
+
     def test_same(self):
         text = """define i8 @f(i8, i8){ b0(): $2 = add i8 $0, $1 $3 = add i8 $0, $1 $4 = add i8 $1, $0 $5 = udiv i8 $0, $1 $6 = udiv i8 $0, $1
             $7 = input i8 $8 = input i8 $9 = add i8 $3, $6 $10 = alloca i8, 1 $11 = alloca i8, 1 return $9 }""" + MAIN
@@ -166,6 +172,12 @@ class Use(unittest.TestCase, Steps):
         self.refused(text.replace("b7(): jump b1($0, 3)", "b7(): jump b1(0, 3)"), step, 4)
         self.refused(text, step[:4] + (("block_param", 2),), 4)
 
+    def test_other_reasons_for_params(self):
+        text = "define i8 @f(i8){ b0(): $1 = add i8 $0, 0 jump b1($1) b1(i8 $2): return $2 }" + MAIN
+        for reason in (("same", 1), ("fold",), ("rule", 0)):
+            self.refused(text, ("use", "f", 2, ("v", 1), reason), 4)
+        self.fits(text, ("use", "f", 2, ("v", 1), ("block_param",)), text.replace("return $2", "return $1"))
+
     def test_block_params_that_are_not_reached(self):
         text = "define i8 @main(){ b0(): $0 = input i8 return $0 b1(i8 $1, i8 $2): print i8 $1 jump b2($1) b2(i8 $3): jump b2($3) }"
         self.fits(text, ("use", "main", 1, ("n", 9), ("block_param",)), text.replace("print i8 $1 jump b2($1)", "print i8 9 jump b2(9)"))
@@ -188,6 +200,13 @@ class Use(unittest.TestCase, Steps):
             self.refused(text, ("use", "main", value, operand, reason), at)
         self.refused(text, ("use", "main", 3, ("n", 4), ("range", ((0, ()), (1, ((3, 4, 5),))))), 4)
         self.refused(text, ("use", "main", 3, ("n", 4), ("range", ((0, ()), (1, ()), (2, ())))), 4)
+
+    def test_range_tells_numbers_alone(self):
+        """What a value is equal to may be the number of a value that stands; this is no reason for that value."""
+        text = "define i8 @f(i8, i8){ b0(): $2 = add i8 $0, 1 $3 = add i8 1, 1 $4 = add i8 $3, $2 return $4 }" + MAIN
+        paper = known_ranges(admitted_text(text)[1][0])
+        self.refused(text, ("use", "f", 3, ("v", 2), ("range", paper)), 4)
+        self.fits(text, ("use", "f", 3, ("n", 2), ("range", paper)), text.replace("add i8 $3, $2", "add i8 2, $2"))
 
     def test_reached_without_a_pair(self):
         """A block to which a run never comes may be reached by ways, but no paper has to tell of it."""
@@ -243,6 +262,10 @@ class UseIn(unittest.TestCase, Steps):
             text = "define i8 @f(i8){ b0(): $1 = cmp " + pred + " i8 $0, 9 branch $1, b1(), b2() b1(): return $0 b2(): return $0 }" + MAIN
             found = outcome(apply_value, admitted_text(text), ("use_in", "f", label, 0, ("n", 9)))
             self.assertEqual(found if type(found) is int else None, told, (pred, label))
+
+    def test_functions_called_eq(self):
+        text = "define i1 @eq(i8, i8){ b0(): return 1 } define i8 @f(i8){ b0(): $1 = call @eq($0, 9) branch $1, b1(), b2() b1(): return $0 b2(): return 3 }" + MAIN
+        self.refused(text, ("use_in", "f", 1, 0, ("n", 9)), 3)
 
     def test_a_value_compared_with_itself(self):
         text = "define i8 @f(i8){ b0(): $1 = cmp eq i8 $0, $0 branch $1, b1(), b2() b1(): return $0 b2(): return 3 }" + MAIN
