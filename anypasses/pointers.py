@@ -20,7 +20,7 @@ def global_sizes(module):
 
 
 def pointer_of(op):
-    """The pointer of a load, a store or an `at`, and the width of the cell to which it goes."""
+    """The pointer by which a load or a store goes to its cell."""
     return op[3][1] if op[1] == "store" else op[3][0]
 
 

@@ -4,8 +4,6 @@ from anypasses.editing import makers_of, ways_by_label
 from anypasses.shapes import end_targets
 from anypasses.webs import block_at, reached_labels
 
-SIDE_PREDS = ("eq", "ne")
-
 
 def only_way_in(function, label):
     """The only way into a reached block, or None."""

@@ -168,7 +168,10 @@ class Papers(unittest.TestCase):
         """Labels that nothing goes to may have any entries; what they go to must have a pair."""
         function = main_of("b0(): return 0 b1(): $1 = input i8 jump b2($1) b2(i8 $2): branch 1, b3(), b1() b3(): stop b4(): stop")
         row = ((0, ()),)
-        for more, told in ((((4, ((7, 1, 2),)),), True), (((3, ((1, 0, 0), (9, 3, 10 ** 30))),), True), (((2, ()),), False),
+        for entries in (((7, 2, 1),), ((7, 1, 2), (7, 1, 2)), ((7, 1, 2), (7, 1, 3)), ((7, 1, 2), (6, 1, 2)), ((True, 1, 2),), ((7, False, 2),), ((7, 1, True),), ((7, 1, 2.0),),
+                        ((-7, 1, 2),), ((7, -1, 2),), ((7, 1),), ((7, 1, 2, 3),), ([7, 1, 2],), [(7, 1, 2)], (7, 1, 2), None, ((None, 1, 2),), (("7", 1, 2),)):
+            self.assertIs(is_range_paper(function, row + ((4, entries),)), False, entries)
+        for more, told in ((((4, ((7, 1, 1),)),), True), (((4, ((7, 1, 2),)),), True), (((3, ((1, 0, 0), (9, 3, 10 ** 30))),), True), (((2, ()),), False),
                            (((2, ()), (3, ())), True), (((2, ((1, 0, 5),)), (3, ((1, 0, 5),))), True),
                            (((2, ((1, 0, 5),)), (3, ((1, 0, 4),))), False), (((1, ()), (2, ()), (3, ())), True),
                            (((1, ()), (2, ((2, 0, 9),)), (3, ())), False), (((5, ()),), False), (((1, ()),), False)):
