@@ -86,15 +86,14 @@ def narrow(entries, pred, width, args):
     return True
 
 
-def handed_on(entries, params, args):
-    """The entries at the start of a block to which these args are handed."""
-    later = dict(entries)
-    for (value, kind), arg in zip(params, args):
-        if kind == "ptr":
-            lose(later, value)
+def hand_on(entries, params, args):
+    """Gives the params of a block the entries of the args that are handed to them, all at once."""
+    told = [None if kind == "ptr" else asked(entries, arg, kind) for (_, kind), arg in zip(params, args)]
+    for (value, kind), taken in zip(params, told):
+        if taken is None:
+            lose(entries, value)
         else:
-            give(later, value, kind, asked(entries, arg, kind))
-    return later
+            give(entries, value, kind, taken)
 
 
 class RangeFlow:
@@ -125,7 +124,7 @@ class RangeFlow:
         return side if narrow(side, pred, width, args) else None
 
     def sides(self, entries, end):
-        """The entries that go to each target of an end, None where nothing goes."""
+        """The entries that go to each target of an end, unlike dicts, None where nothing goes."""
         if end[0] == "jump":
             return (entries,)
         if end[0] != "branch":
@@ -140,7 +139,8 @@ class RangeFlow:
     def handed(self, label, entries):
         """For each target of a block the entries at its start, from those at the block's own start."""
         _, _, ops, end = self.blocks[label]
-        told = []
-        for side, (other, args) in zip(self.sides(self.ahead_of(label, entries, len(ops)), end), end_targets(end)):
-            told.append(None if side is None else handed_on(side, self.blocks[other][1], args))
-        return tuple(told)
+        told = self.sides(self.ahead_of(label, entries, len(ops)), end)
+        for side, (other, args) in zip(told, end_targets(end)):
+            if side is not None:
+                hand_on(side, self.blocks[other][1], args)
+        return told

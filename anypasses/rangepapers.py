@@ -5,7 +5,7 @@ from anypasses.kinds import are_ascending, is_number, is_pair
 from anypasses.rangeflow import RangeFlow
 from anypasses.settling import settle
 from anypasses.shapes import end_targets
-from anypasses.webs import entry_of
+from anypasses.webs import end_labels, entry_of
 
 # Of a value the low can go down, the high up, at most once for each of 65 powers, and the entry can be lost.
 MOST_CHANGES = 2 * 65 + 1
@@ -29,7 +29,8 @@ def joined_range(old, new):
 
 
 def joined_entries(old, new):
-    return {value: joined_range(old[value], new[value]) for value in old if value in new}
+    return {value: old[value] if old[value] == new[value] else joined_range(old[value], new[value])
+            for value in old if value in new}
 
 
 def entries_row(entries):
@@ -42,17 +43,59 @@ def entries_dict(row):
     return {value: (low, high) for value, low, high in row}
 
 
+class RangeRounds:
+    """What is handed on and joined in the rounds that settle range papers.
+
+    A fact is a pair of a number of its own and of entries, so that what is known of a fact that did not change need not
+    be found again: `asked` has for each label the fact that was asked last, and what it handed on; `held` has the
+    pairs of numbers of facts the second of which was within the first one."""
+
+    def __init__(self, function):
+        self.flow = RangeFlow(function)
+        self.labels = sorted(self.flow.blocks)
+        self.made = 0
+        self.asked = {}
+        self.held = {}
+
+    def fact(self, entries):
+        self.made += 1
+        return (self.made, entries)
+
+    def step(self, point, fact):
+        """The facts that a point hands on, None where nothing goes."""
+        label = self.labels[point]
+        if label not in self.asked or self.asked[label][0] != fact[0]:
+            told = self.flow.handed(label, fact[1])
+            self.asked[label] = (fact[0], tuple([None if entries is None else self.fact(entries) for entries in told]))
+        return self.asked[label][1]
+
+    def join(self, old, new):
+        """The old fact itself, if the new one is within it."""
+        if (old[0], new[0]) in self.held:
+            return old
+        entries = joined_entries(old[1], new[1])
+        if entries != old[1]:
+            return self.fact(entries)
+        self.held[(old[0], new[0])] = True
+        return old
+
+    def most_rounds(self):
+        """So many rounds are enough."""
+        values = len(self.flow.makers) + sum([len(self.flow.blocks[label][1]) for label in self.labels])
+        return len(self.labels) * (values * MOST_CHANGES + 1) + 1
+
+
 def known_ranges(function):
     """The range paper of a function that rounds of handing on and joining tell."""
-    flow = RangeFlow(function)
-    labels = sorted(flow.blocks)
+    rounds = RangeRounds(function)
+    labels = rounds.labels
     points = {label: at for at, label in enumerate(labels)}
-    targets = tuple([tuple([points[other] for other, _ in end_targets(flow.blocks[label][3])]) for label in labels])
-    starts = tuple([{} if label == entry_of(function) else None for label in labels])
-    many = len(flow.makers) + sum([len(flow.blocks[label][1]) for label in labels])
-    rounds = len(labels) * (many * MOST_CHANGES + 1) + 1
-    facts = settle(targets, starts, lambda point, fact: flow.handed(labels[point], fact), joined_entries, rounds)
-    return tuple([(label, entries_row(fact)) for label, fact in zip(labels, facts) if fact is not None])
+    targets = tuple([tuple([points[other] for other in end_labels(rounds.flow.blocks[label][3])]) for label in labels])
+    starts = tuple([rounds.fact({}) if label == entry_of(function) else None for label in labels])
+    facts = settle(
+        targets, starts, lambda point, fact: rounds.step(point, fact), lambda old, new: rounds.join(old, new),
+        rounds.most_rounds())
+    return tuple([(label, entries_row(fact[1])) for label, fact in zip(labels, facts) if fact is not None])
 
 
 def is_entry(value):

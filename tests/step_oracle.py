@@ -16,6 +16,7 @@ from webs_oracle import Web
 FORMS = {"put_in": 5, "take_lot": 3, "take_out": 3, "use": 5, "use_in": 5, "pick": 3, "drop": 2, "join": 3, "bend": 4, "land": 4, "twin": 4,
          "carry": 4, "param_out": 4}
 VALUE_WORDS = ("put_in", "take_lot", "take_out", "use", "use_in")
+FLOW_WORDS = ("pick", "drop", "join", "bend", "land", "twin", "carry", "param_out")
 
 
 class Unfit(Exception):
@@ -122,7 +123,7 @@ def told_value(module, step):
 
 
 def told_flow(module, step):
-    return told_by(flow_step, module, step, [word for word in FORMS if word not in VALUE_WORDS])
+    return told_by(flow_step, module, step, FLOW_WORDS)
 
 
 def fits_kind(draft, operand, kind):

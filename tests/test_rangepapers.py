@@ -118,6 +118,18 @@ class Known(unittest.TestCase):
         told = ranges_of("b0(): jump b1(3) b1(i8 $1): $2 = add i8 $1, 250 $3 = input i8 branch 1, b1($3), b2() b2(): stop")
         self.assertEqual(told, {0: (), 1: ()})
 
+    def test_many_loops(self):
+        """Loops one behind the other, with labels that fall, so that what one hands on takes a round to come to the next."""
+        rows = []
+        for at in range(40, 1, -1):
+            value = 10 * at
+            rows.append(f"""b{at}(i64 ${value}): ${value + 1} = add i64 ${value}, 1 ${value + 2} = and i64 ${value + 1}, 9223372036854775807
+                ${value + 3} = input i1 branch ${value + 3}, b{at}(${value + 2}), b{at - 1}(${value})""")
+        function = main_of("b99(): jump b40(1) " + " ".join(rows) + " b1(i64 $1): return 0")
+        paper = known_ranges(function)
+        self.assertEqual(paper, range_oracle.known(function))
+        self.assertTrue(is_range_paper(function, paper))
+
     def test_unreached(self):
         told = ranges_of("b0(): stop b1(): $1 = add i8 $1, 1 jump b1()")
         self.assertEqual(told, {0: ()})
