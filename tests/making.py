@@ -158,15 +158,22 @@ class FunctionMaker:
         if value is not None:
             at_hand.append(value)
 
-    def function(self):
-        rng = self.rng
-        count = rng.randint(1, self.most_blocks)
-        labels = rng.sample(range(60), count)
+    def block_count(self):
+        return self.rng.randint(1, self.most_blocks)
+
+    def shape(self, count):
+        """For each block the word of its end, and the indices of the blocks to which it leads."""
         shape = []
         for at in range(count):
-            word = rng.choice(self.end_words) if count > 1 else rng.choice(("return", "stop"))
-            heads = [self.head(at, k, count) for k in range({"jump": 1, "branch": 2}.get(word, 0))]
-            shape.append((word, heads))
+            word = self.rng.choice(self.end_words) if count > 1 else self.rng.choice(("return", "stop"))
+            shape.append((word, [self.head(at, k, count) for k in range({"jump": 1, "branch": 2}.get(word, 0))]))
+        return shape
+
+    def function(self):
+        rng = self.rng
+        count = self.block_count()
+        labels = rng.sample(range(60), count)
+        shape = self.shape(count)
         params = [()] + [tuple((self.made(kind), kind) for kind in rng.choices(TYPES, k=rng.randint(0, 2)))
                          for _ in range(count - 1)]
         above = dominators_by_leaving_out(count, [heads for _, heads in shape])

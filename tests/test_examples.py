@@ -5,10 +5,17 @@ import unittest
 from anypasses.admission import module_fault
 from anypasses.call_steps import apply_call
 from anypasses.callees import quiet_fuel
+from anypasses.callgoals import loose_signature, small_call, tail_left, unused_thing
+from anypasses.callpasses import pass_inline, pass_merge, pass_signatures, pass_unused
 from anypasses.cleaning import is_clean
+from anypasses.combining import is_combined
+from anypasses.constants import loose_number, pass_constants
 from anypasses.dominating import dominates, is_standing_tree, tree_of, way_around
 from anypasses.flow_steps import apply_flow
+from anypasses.hoisting import loose_ops, pass_hoist
 from anypasses.judge import judged
+from anypasses.knowing import known_numbers, told_number
+from anypasses.landing import landing_block
 from anypasses.loops import loop_ends, loops_of
 from anypasses.machine import deeds_of, run_module, whole_run
 from anypasses.meeting import frontier, meeting_labels
@@ -16,12 +23,19 @@ from anypasses.neatness import pass_neat
 from anypasses.needs import dead_values, is_lean, needed_values, pass_dead
 from anypasses.numbers import bin_told, cast_told, cmp_told, signed, wrapped
 from anypasses.parts import operand_uses, value_types
+from anypasses.peeling import is_plain, peel_paper
+from anypasses.promotion import is_promoted, pass_promote
 from anypasses.pureness import folded, is_pure
 from anypasses.reading import read_module, read_op
+from anypasses.remembering import best_contents, best_unread, is_remembered, pass_memory
 from anypasses.rules import RULES
 from anypasses.runs import agree_so_far, is_beginning
+from anypasses.sharing import is_shared
+from anypasses.sides import known_sides
 from anypasses.standing import standing
-from anypasses.webs import reached_labels, sources_of, way_to
+from anypasses.turning import pass_turn, unturned_heads
+from anypasses.webs import block_at, reached_labels, sources_of, way_to
+from anypasses.weights import op_weight, weight
 from anypasses.writing import module_text, op_text
 
 
@@ -120,6 +134,62 @@ class Examples(unittest.TestCase):
             (is_clean(spin), is_lean(spin), module_text(judged(spin, pass_neat(spin)))),
             (False, False, "define i8 @main() {\nb0():\n  $0 = input i8\n  jump b1($0)\nb1(i8 $1):\n  print i8 $1\n"
                            "  jump b1($1)\n}"))
+
+    def test_what_is_known(self):
+        text = ("define i8 @main(){b0(): $0=input i8 jump b1(1) b1(i8 $1): $2=cmp eq i8 $1,1 branch $2,b2(),b3() b2(): $3=cmp ult i8 $0,9"
+                " branch $3,b1($1),b4() b3(): jump b1(7) b4(): return $1}")
+        module = read_module(text)
+        self.assertEqual(
+            (known_numbers(module[1][0]), told_number(module[1][0], known_numbers(module[1][0]), 2)),
+            (((0, ()), (1, ((1, 1, 1),)), (2, ((1, 1, 1), (2, 1, 1))), (4, ((1, 1, 1), (2, 1, 1), (3, 0, 0)))), 1))
+        later = judged(module, pass_constants(module))
+        self.assertEqual(
+            ([block[0] for block in later[1][0][3]], later[1][0][3][3][3], loose_number(later), known_sides(later[1][0])),
+            ([0, 1, 2, 4], ("return", ("n", 1)), None, ((4, 3, 0),)))
+
+    def test_weights(self):
+        self.assertEqual(
+            (op_weight((3, "bin", ("mul", 8), (("n", 2), ("v", 0)))), op_weight((3, "at", (8,), (("v", 1), ("n", 2))))), (9, 1))
+        some = ("main", (), 8, ((0, (), ((0, "input", (8,), ()), (1, "bin", ("mul", 8), (("v", 0), ("n", 4)))), ("return", ("v", 1))),))
+        self.assertEqual((weight(some), is_combined(((), (some,))), is_shared(((), (some,)))), ((8, 1), False, True))
+
+    def test_cells(self):
+        cell = ("main", (), 8, ((0, (), ((0, "alloca", (8, 1), ()), (None, "store", (8,), (("n", 7), ("v", 0))), (1, "load", (8,), (("v", 0),))),
+                                 ("return", ("v", 1))),))
+        self.assertEqual(
+            (pass_promote(((), (cell,))), is_promoted(((), (cell,))), best_contents(cell, (("v", 0), 0, 8)), best_unread(cell, (("v", 0), 0, 8))),
+            ((("promote", "main", 0, ()),), False, (), (0,)))
+        self.assertEqual(
+            (pass_memory(((), (cell,))), is_remembered(((), (cell,)))),
+            ((("forward", "main", 1, ()), ("store_out", "main", 0, 1, ("unread", (), (0,)))), False))
+
+    def test_loops(self):
+        some = read_module("define i8 @f(i8, i8){b0(): jump b1(0) b1(i8 $2): $3=cmp ult i8 $2,$0 branch $3,b2(),b3() b2(): $4=mul i8 $0,$1"
+                           " $5=add i8 $2,$4 jump b1($5) b3(): return $2} define i8 @main(){b0(): $0=call @f(9,2) return $0}")
+        self.assertEqual(
+            (loose_ops(some), landing_block(some[1][0], 1), unturned_heads(some[1][0]), is_plain(some[1][0], 1)), ((("f", 4),), 0, (1,), True))
+        better = judged(some, pass_hoist(some))
+        self.assertEqual((loose_ops(better), len(block_at(better[1][0], 2)[2])), ((), 1))
+        peeled = judged(some, peel_paper(some, "f", 1))
+        self.assertEqual(
+            (loops_of(peeled[1][0]), len(peeled[1][0][3]), unturned_heads(judged(some, pass_turn(some))[1][0])), (((1, (1, 2)),), 6, ()))
+
+    def test_passes_on_calls(self):
+        text = ("define i8 @a(i8){b0(): $1 = add i8 $0, 1 return $1} define i8 @b(i8){b0(): $9 = add i8 $0, 1 return $9}"
+                " define i8 @main(){b0(): $0=call @a(5) $1=call @b($0) print i8 $1 return 0}")
+        module = read_module(text)
+        self.assertEqual(
+            (pass_merge(module) in ((("merge", (("a", "b"),)),), (("merge", (("b", "a"),)),)), len(pass_inline(module))), (True, 2))
+        # The document asks for `pass_unused(module)` here. But in the first module all is needed, and no step of these
+        # kinds fits it; what the document shows is told if the pass is asked of the module that is to be changed.
+        self.assertEqual((unused_thing(module), pass_unused(module)), (None, ()))
+        inlined = judged(module, pass_inline(module))
+        later = judged(inlined, pass_unused(inlined))
+        self.assertEqual(
+            ([function[0] for function in later[1]], unused_thing(later), small_call(later), tail_left(later)), (["main"], None, None, None))
+        text = "define i8 @f(i8){b0(): print i8 $0 return 3} define i8 @main(){b0(): $9 = input i8 $0=call @f($9) return $0}"
+        self.assertEqual(
+            (loose_signature(read_module(text)), len(pass_signatures(read_module(text)))), (("result_known", "f", ("n", 3)), 2))
 
 
 if __name__ == "__main__":

@@ -54,9 +54,35 @@ INTERFACE = {
     "cleaning": "pass_clean(module) is_clean(module)",
     "needs": "needed_values(module,function) dead_values(module,function) pass_dead(module) is_lean(module)",
     "neatness": "pass_neat(module) is_neat(module)",
+    "knowing": "known_numbers(function) is_number_paper(function,value) told_number(function,paper,value)",
+    "constants": "loose_number(module) pass_constants(module)",
+    "sides": "known_sides(function)",
+    "rangepasses": "loose_range(module) pass_ranges(module)",
+    "weights": "op_weight(op) weight(function)",
+    "combining": "is_combined(module) pass_combine(module)",
+    "sharing": "is_shared(module) pass_values(module) is_tidy(module) pass_tidy(module)",
+    "promotion": "spare_entries(function,value,paper) promotion_paper(function,value) pass_promote(module)"
+                 " is_promoted(module)",
+    "remembering": "best_contents(function,place) best_unread(function,place) pass_memory(module)"
+                   " is_remembered(module)",
+    "landing": "landing_block(function,head) has_landings(module) pass_landings(module)",
+    "hoisting": "loose_ops(module) pass_hoist(module)",
+    "peeling": "is_plain(function,head) peel_paper(module,name,head)",
+    "turning": "unturned_heads(function) pass_turn(module)",
+    "callgoals": "small_call(module) tail_left(module) loose_signature(module) doubled_call(module)"
+                 " unused_thing(module)",
+    "callpasses": "pass_inline(module) pass_tails(module) pass_signatures(module) pass_merge(module)"
+                  " pass_unused(module)",
+    "rows": "pass_paper(module,name) optimised(module,names) still(module,names) rounds_told(module,names,most)"
+            " size_of(module) growth(module,names) whole(text,names)",
+    "builds": "checked(build,inputs,fuel)",
+}
+CLASSES = {
+    "builds": ("Build(text)", "__len__() module() first() paper() text() do(name) judge(paper) undo() within(work)"),
+    "desk": ("Desk()", "load(text) say(command)"),
 }
 VALUES = {"numbers": "WIDTHS OPS PREDS CASTS", "rules": "RULES", "value_steps": "VALUE_WORDS", "flow_steps": "FLOW_WORDS",
-          "memory_steps": "MEMORY_WORDS", "call_steps": "CALL_WORDS"}
+          "memory_steps": "MEMORY_WORDS", "call_steps": "CALL_WORDS", "rows": "PASSES"}
 ERRORS = ("PassError", "InvalidText", "InvalidModule", "InvalidStep", "InvalidQuestion", "Refused", "InvalidCommand")
 
 
@@ -75,6 +101,20 @@ class Interface(unittest.TestCase):
                     self.assertIn(function, defined_in(name))
                     wanted = params.split(",") if params else []
                     self.assertEqual(list(inspect.signature(getattr(module, function)).parameters), wanted)
+
+    def test_classes(self):
+        for name, (told, methods) in CLASSES.items():
+            module = importlib.import_module(f"anypasses.{name}")
+            word, params = told.rstrip(")").split("(")
+            self.assertIn(word, defined_in(name))
+            owner = getattr(module, word)
+            self.assertEqual(list(inspect.signature(owner).parameters), params.split(",") if params else [])
+            for method in methods.split():
+                word, params = method.rstrip(")").split("(")
+                with self.subTest(name=name, method=word):
+                    self.assertIn(word, vars(owner))
+                    wanted = ["self"] + (params.split(",") if params else [])
+                    self.assertEqual(list(inspect.signature(vars(owner)[word]).parameters), wanted)
 
     def test_values(self):
         for name, told in VALUES.items():

@@ -143,6 +143,23 @@ class Language(unittest.TestCase):
                 reach[name] |= {far for near in reach[name] for far in reach[near]}
         self.assertEqual([name for name in reach if name in reach[name]], [])
 
+    def test_names_of_methods_and_attributes(self):
+        """No name is both, so that none can be taken for the other."""
+        attributes = {node.attr for tree in TREES.values() for node in ast.walk(tree)
+                      if isinstance(node, ast.Attribute) and isinstance(node.ctx, ast.Store)}
+        self.assertFalse(attributes & OWN_METHODS)
+
+    @for_each_file
+    def test_ends_that_always_come(self, name, tree):
+        """A `finally` has nothing but plain assignments, and `__len__` tells the length of something."""
+        for node in ast.walk(tree):
+            if isinstance(node, ast.Try):
+                for row in node.finalbody:
+                    self.assertIsInstance(row, ast.Assign)
+                    self.assertIsInstance(row.value, (ast.Name, ast.Attribute))
+            if isinstance(node, ast.FunctionDef) and node.name == "__len__":
+                self.assertRegex(ast.unparse(node.body[-1]), r"^return len\(self\.\w+\)$")
+
     @for_each_file
     def test_imports_are_used(self, name, tree):
         used = {node.id for node in ast.walk(tree) if isinstance(node, ast.Name)}
@@ -177,7 +194,7 @@ class Language(unittest.TestCase):
         self.assertFalse(names & BARRED_ANYWHERE)
         self.assertFalse((names - own) & BARRED_NAMES)
         self.assertFalse({found for found in names - own if found in python_names and found != "__init__"})
-        for found in names - {"__init__"}:
+        for found in names - {"__init__", "__len__"}:
             self.assertRegex(found, r"^(_|_?[A-Za-z][A-Za-z0-9_]*)$")
 
     @for_each_file
