@@ -1,9 +1,9 @@
 """Ops combined by rules, until no rule is left for any ([59])."""
 
-from anypasses.pureness import folded, is_pure
-from anypasses.renewing import FreshValues, Renewal
 from anypasses.editing import blocks_by_label
 from anypasses.orders import defining_order
+from anypasses.pureness import folded, is_pure
+from anypasses.renewing import FreshValues, Renewal
 from anypasses.rewriting import Rewriter
 from anypasses.weights import reached_ops
 

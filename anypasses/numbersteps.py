@@ -2,7 +2,7 @@
 
 from anypasses.editing import blocks_by_label, makers_of, used_values
 from anypasses.fewerblocks import dropped, picked
-from anypasses.orders import defining_order
+from anypasses.orders import all_ops, defining_order
 from anypasses.pureness import folded
 from anypasses.rangeflow import go_past
 from anypasses.rangepapers import entries_dict
@@ -25,10 +25,6 @@ def told_singles(function, paper):
             if op[0] in entries:
                 told.append((op[0], entries[op[0]]))
     return [(value, low) for value, (low, high) in told if low == high]
-
-
-def all_ops(function):
-    return [op for block in function[3] for op in block[2]]
 
 
 class NumberSteps:

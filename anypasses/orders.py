@@ -1,10 +1,17 @@
-"""An order of blocks in which what is used comes behind what makes it."""
+"""Orders of the blocks and the ops of a function."""
 
 from anypasses.webs import entry_of, web_of
 
 
+def all_ops(function):
+    """The ops of a function, block by block as these stand."""
+    return [op for block in function[3] for op in block[2]]
+
+
 def defining_order(function):
-    """The reached labels, each behind all others that dominate it: the later a label is left for good, the earlier."""
+    """The reached labels, each behind all others that dominate it, and so behind the makers of all that it uses.
+
+    A label is left for good when all to which it leads have been gone to; the one that is left last stands first."""
     web = web_of(function)
     entry = entry_of(function)
     found = {entry: True}

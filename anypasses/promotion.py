@@ -3,6 +3,7 @@
 from anypasses.editing import ways_by_label
 from anypasses.errors import InvalidQuestion
 from anypasses.fewerblocks import dropped
+from anypasses.orders import all_ops
 from anypasses.pointers import Pointers, pointer_of
 from anypasses.promoting import Promotion, cell_offsets, has_promotion_form
 from anypasses.renewing import FreshValues
@@ -109,17 +110,20 @@ def promotion_paper(function, value):
     return Sparing(function, value, cell_offsets(function, value)).spared_paper()
 
 
-def promotable_values(function):
-    """The values that have told cells, ascending."""
+def promotable_cells(function):
+    """For each value that has told cells these cells, all of them found by going once through the function."""
     pointers = Pointers(function)
-    told = {("v", value): True for value in pointers.privates}
-    for block in function[3]:
-        for op in block[2]:
-            if op[1] in ("load", "store"):
-                spot = pointers.spot(pointer_of(op), op[2][0])
-                if spot[0] in told and not pointers.is_inside({}, spot):
-                    del told[spot[0]]
-    return sorted([value for _, value in told])
+    offsets = {("v", value): {} for value in pointers.privates}
+    outer = {}
+    for op in all_ops(function):
+        if op[1] not in ("load", "store"):
+            continue
+        spot = pointers.spot(pointer_of(op), op[2][0])
+        if spot[0] in offsets:
+            offsets[spot[0]][spot[1]] = True
+            if not pointers.is_inside({}, spot):
+                outer[spot[0]] = True
+    return {root[1]: tuple(sorted(offsets[root])) for root in offsets if root not in outer}
 
 
 def promoted_function(function):
@@ -129,14 +133,14 @@ def promoted_function(function):
     if less is not None:
         steps.append(("drop", function[0]))
         function = less
-    values = promotable_values(function)
-    while len(values) > 0:
-        for value in values:
-            offsets = cell_offsets(function, value)
-            paper = Sparing(function, value, offsets).spared_paper()
+    cells = promotable_cells(function)
+    while len(cells) > 0:
+        for value in sorted(cells):
+            paper = Sparing(function, value, cells[value]).spared_paper()
             steps.append(("promote", function[0], value, paper))
-            function = Promotion(function, value, offsets, paper).promoted()
-        values = promotable_values(function)
+            # The cells of the others stay as they are, and so do their loads and stores.
+            function = Promotion(function, value, cells[value], paper).promoted()
+        cells = promotable_cells(function)
     return function, steps
 
 
@@ -148,6 +152,6 @@ def pass_promote(module):
 def is_promoted(module):
     """Whether all blocks of a module are reached, and no value has told cells."""
     for function in module[1]:
-        if len(reached_labels(function)) < len(function[3]) or len(promotable_values(function)) > 0:
+        if len(reached_labels(function)) < len(function[3]) or len(promotable_cells(function)) > 0:
             return False
     return True

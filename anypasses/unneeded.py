@@ -1,7 +1,7 @@
 """Calls, functions and globals that nobody needs ([45], [73])."""
 
-from anypasses.calling import called_names
 from anypasses.call_steps import global_operands
+from anypasses.calling import called_names
 from anypasses.editing import used_counts, with_blocks
 from anypasses.orders import defining_order
 from anypasses.ways import reached_from

@@ -44,12 +44,19 @@ def operands_in(thing):
     return [found for part in thing for found in operands_in(part)]
 
 
+def is_plain_thing(thing):
+    """Whether something is put together of tuples, strings, numbers and None alone."""
+    if type(thing) is tuple:
+        return all(is_plain_thing(part) for part in thing)
+    return thing is None or type(thing) in (str, int)
+
+
 class Passes:
     """Checks for a test case of passes."""
 
     def made(self, module, paper, words):
         """The pairs of the module ahead of a step and the step, for each; all have these words, and the judge takes all."""
-        self.assertTrue(is_paper(paper))
+        self.assertTrue(is_paper(paper) and is_plain_thing(paper))
         self.assertLessEqual({step[0] for step in paper}, set(words))
         now, row = module, []
         for step in paper:
